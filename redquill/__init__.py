@@ -1,0 +1,1 @@
+"""Redquill: a paper with its strokes shown."""
