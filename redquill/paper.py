@@ -48,8 +48,14 @@ class Paper:
         self.check_known(name)
         return self.states[name]
 
+    def strokes_in(self, state):
+        return [row for row in self.drawn if self.states[row[0]] == state]
+
     def waiting(self):
-        return [row[0] for row in self.drawn if self.states[row[0]] == WAITS]
+        return [row[0] for row in self.strokes_in(WAITS)]
+
+    def standing(self):
+        return [row[0] for row in self.strokes_in(STANDS)]
 
     def unwiped(self):
         return [row[0] for row in self.drawn if self.states[row[0]] != WIPED]

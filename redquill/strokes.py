@@ -21,6 +21,9 @@ class Stroke:
     def touched(self):
         return list(self.names)
 
+    def concerned(self):
+        return self.touched()
+
     def leans(self):
         named = self.touched() + [self.anchor]
         return sorted(set([slot[:2] for slot in named if slot[0] != ""]))
@@ -34,6 +37,10 @@ class Put(Stroke):
 
     def slots(self):
         return slots_made(self.name, len(self.signs))
+
+    def concerned(self):
+        # The signs that it puts in are named by the slots that it makes.
+        return self.slots()
 
     def row(self):
         return (self.name, self.time, ("put", self.anchor, self.signs))

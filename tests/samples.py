@@ -2,9 +2,11 @@
 
 import random
 
+from redquill.paper import Paper
 from redquill.strokes import START
 
 PENS = ("a", "ab", "b", "zed")
+STATES = ("waits", "waits", "stands", "wiped")
 WORDS = ("", "bold", "small")
 SIGNS = "xyz \\\n"
 
@@ -80,9 +82,44 @@ def some_of(seed, things):
     return [thing for thing in things if rng.random() < 0.5]
 
 
+def signs_of(row):
+    """The names of the signs that a stroke put in or names."""
+    return slots_made_by(row) if row[2][0] == "put" else list(row[2][1])
+
+
+def greatest_numbers(strokes):
+    return list(dict(sorted(row[0] for row in strokes)).items())
+
+
+def filled_paper(old, strokes, states):
+    paper = Paper(old)
+    paper.fill(strokes, states, greatest_numbers(strokes), max([row[1] for row in strokes], default=0))
+    return paper
+
+
+def some_paper(seed, old, how_many):
+    """A paper of sound strokes, about half of them waiting, the others let stand or wiped."""
+    rng = random.Random(seed)
+    strokes = sound_strokes(seed, old, how_many)
+    return filled_paper(old, strokes, [(row[0], rng.choice(STATES)) for row in strokes])
+
+
+def states_told(paper):
+    return [(row[0], paper.state(row[0])) for row in paper.strokes()]
+
+
+def copy_of(paper):
+    other = Paper(paper.old_text())
+    other.fill(paper.strokes(), states_told(paper), paper.numbers(), paper.last_time())
+    return other
+
+
+def names_in(paper, *states):
+    return [name for name, state in states_told(paper) if state in states]
+
+
 def all_told(paper):
     """Everything that a paper tells, to be held against what it tells later."""
-    states = [(row[0], paper.state(row[0])) for row in paper.strokes()]
     leaning = [paper.leaning_on(row[0]) for row in paper.strokes()]
-    return (paper.old_text(), paper.strokes(), states, leaning, paper.numbers(), paper.last_time(), paper.waiting(),
-            paper.view(), paper.seats())
+    return (paper.old_text(), paper.strokes(), states_told(paper), leaning, paper.numbers(), paper.last_time(),
+            paper.waiting(), paper.view(), paper.seats())

@@ -6,13 +6,9 @@ from redquill.errors import Decided, Leaned, NoStroke, NotYours
 from redquill.paper import Paper
 from redquill.readings import reading, text_of
 from redquill.strokes import START, in_order, stroke_of
-from samples import all_told, jumbled, old_slot, sound_strokes
+from samples import all_told, greatest_numbers, jumbled, old_slot, sound_strokes
 
 A, B, C = (old_slot(k) for k in range(1, 4))
-
-
-def greatest_numbers(strokes):
-    return list(dict(sorted(row[0] for row in strokes)).items())
 
 
 class RefusalsTest(unittest.TestCase):
