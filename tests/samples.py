@@ -123,3 +123,39 @@ def all_told(paper):
     leaning = [paper.leaning_on(row[0]) for row in paper.strokes()]
     return (paper.old_text(), paper.strokes(), states_told(paper), leaning, paper.numbers(), paper.last_time(),
             paper.waiting(), paper.view(), paper.seats())
+
+
+def some_deed(rng, paper, pen):
+    length = len(paper.view())
+    kind = rng.choice(("put", "strike", "dress", "move", "decide", "back")) if length else "put"
+    at = rng.randint(0, max(length - 1, 0))
+    to = rng.randint(at + 1, min(at + 3, length)) if length else 0
+    if kind == "put":
+        paper.put(pen, rng.randint(0, length), "".join(rng.choices(SIGNS, k=rng.randint(1, 3))))
+    elif kind == "strike":
+        paper.strike(pen, at, to)
+    elif kind == "dress":
+        paper.dress(pen, at, to, rng.choice(WORDS))
+    elif kind == "move":
+        paper.move(pen, at, to, rng.randint(0, length))
+    elif kind == "decide" and paper.waiting():
+        rng.choice((paper.let_stand, paper.wipe))(rng.choice(paper.waiting()))
+    elif kind == "back":
+        free = [name for name in paper.waiting() if paper.leaning_on(name) == []]
+        if free:
+            name = rng.choice(free)
+            paper.take_back(name[0], name)
+
+
+def worked_on(seed, paper, pens, how_many):
+    rng = random.Random(seed)
+    other = copy_of(paper)
+    for deed in range(how_many):
+        some_deed(rng, other, rng.choice(pens))
+    return other
+
+
+def grown_apart(seed):
+    """Three papers that went on from one, each with pens of its own."""
+    base = worked_on(seed, Paper("abcd\n"[:seed % 6]), ("ann", "m"), 8)
+    return [worked_on(f"{seed} {pen}", base, (pen, pen + "x"), 10) for pen in ("b", "an", "zed")]

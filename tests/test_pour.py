@@ -1,5 +1,4 @@
 import itertools
-import random
 import unittest
 
 from redquill.errors import OtherText, QuillError, Twice
@@ -7,7 +6,8 @@ from redquill.paper import Paper
 from redquill.pour import clashes, poured
 from redquill.readings import reading, text_of
 from redquill.strokes import START, in_order, stroke_of
-from samples import all_told, copy_of, filled_paper, names_in, old_slot, some_of, sound_strokes, states_told
+from samples import (all_told, copy_of, filled_paper, grown_apart, names_in, old_slot, some_of, sound_strokes,
+                     states_told)
 
 A, B, C, D = (old_slot(k) for k in range(1, 5))
 STATES = ("waits", "stands", "wiped")
@@ -31,42 +31,6 @@ def move(pen, n, time, anchor, *names):
 
 def waiting_paper(old, strokes):
     return filled_paper(old, strokes, [(row[0], "waits") for row in strokes])
-
-
-def some_deed(rng, paper, pen):
-    length = len(paper.view())
-    kind = rng.choice(("put", "strike", "dress", "move", "decide", "back")) if length else "put"
-    at = rng.randint(0, max(length - 1, 0))
-    to = rng.randint(at + 1, min(at + 3, length)) if length else 0
-    if kind == "put":
-        paper.put(pen, rng.randint(0, length), "".join(rng.choices("xyz\n", k=rng.randint(1, 3))))
-    elif kind == "strike":
-        paper.strike(pen, at, to)
-    elif kind == "dress":
-        paper.dress(pen, at, to, rng.choice(("", "bold", "small")))
-    elif kind == "move":
-        paper.move(pen, at, to, rng.randint(0, length))
-    elif kind == "decide" and paper.waiting():
-        rng.choice((paper.let_stand, paper.wipe))(rng.choice(paper.waiting()))
-    elif kind == "back":
-        free = [name for name in paper.waiting() if paper.leaning_on(name) == []]
-        if free:
-            name = rng.choice(free)
-            paper.take_back(name[0], name)
-
-
-def worked_on(seed, paper, pens, how_many):
-    rng = random.Random(seed)
-    other = copy_of(paper)
-    for deed in range(how_many):
-        some_deed(rng, other, rng.choice(pens))
-    return other
-
-
-def grown_apart(seed):
-    """Three papers that went on from one, each with pens of its own."""
-    base = worked_on(seed, Paper("abcd\n"[:seed % 6]), ("ann", "m"), 8)
-    return [worked_on(f"{seed} {pen}", base, (pen, pen + "x"), 10) for pen in ("b", "an", "zed")]
 
 
 class PouredTest(unittest.TestCase):
